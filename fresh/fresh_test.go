@@ -86,3 +86,24 @@ func TestPiecesOfOneSlice(t *testing.T) {
 		t.Errorf("a copy of pieces is %v", got[1:])
 	}
 }
+
+// Two doubled(4) have 62 parts: they are apart below the bound, and one from it on.
+func TestApartAsFarAsTheBoundSays(t *testing.T) {
+	one := doubled(4)
+	ts := []api.Term{one, one}
+	for _, x := range []struct {
+		most  int
+		apart bool
+	}{{-1, false}, {0, false}, {1, false}, {62, false}, {63, true}, {1 << 20, true}} {
+		got := fresh.Apart(ts, x.most)
+		if !reflect.DeepEqual(got, ts) {
+			t.Errorf("a copy within %d is %v", x.most, got)
+		}
+		if apart := &got[0].Args[0] != &got[1].Args[0]; apart != x.apart {
+			t.Errorf("within %d, the parts of a copy are apart: %v", x.most, apart)
+		}
+		if &got[0].Args[0] == &one.Args[0] {
+			t.Errorf("within %d, a copy shares memory with its argument", x.most)
+		}
+	}
+}
