@@ -123,6 +123,34 @@ func TestLiveThroughParts(t *testing.T) {
 	}
 }
 
+// The offset and the length of a part lead nowhere, though they look as if they
+// did; nor does anything in a refc, in bytes, in an integer or in a float.
+func TestLiveOfNumbersLikeAddresses(t *testing.T) {
+	slots := make([]api.Slot, 14)
+	slots[13] = api.Slot{Stamp: 13, Count: 1, Bytes: xs(13)}
+	slots[12] = api.Slot{Stamp: 12, Count: 1, Bytes: xs(12)}
+	// 12 is a box of the address 1, 13 a pair there.
+	for _, first := range [][]uint64{{head(api.HeadTuple, 1), empty}, {small(1), empty}} {
+		for n := uint64(12); n <= 13; n++ {
+			for what, words := range map[string][]uint64{
+				"a part":       append([]uint64{head(api.HeadSub, 3), box(7), n, n}, bytesObject(xs(26))...),
+				"a refc":       {head(api.HeadRefc, 3), n, n, n},
+				"bytes":        {head(api.HeadBytes, 3), n, n, n},
+				"an integer":   {head(api.HeadBig, 3), 1, n, n},
+				"a float":      {head(api.HeadFloat, 1), n},
+				"an odd float": {head(api.HeadFloat, 1), n | 1<<63},
+			} {
+				d := young(append(slices.Clone(first), words...)...)
+				d.Roots = []uint64{box(3)}
+				live := len(words)
+				if got := look.Live(d); got != live || look.Why(d, slots) == "roots" {
+					t.Errorf("P12.3: %s with %d: %d words, not %d, %q", what, n, got, live, look.Why(d, slots))
+				}
+			}
+		}
+	}
+}
+
 // Objects that lie over each other count each, though they have words in
 // common.
 func TestLiveOfOverlaps(t *testing.T) {

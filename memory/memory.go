@@ -1,4 +1,6 @@
-package look
+// Package memory: the regions and the objects of dumps, for the layers that
+// look at them and move them. Nothing of what it answers is a copy.
+package memory
 
 import (
 	"cmp"
@@ -9,41 +11,42 @@ import (
 	"beehive/api"
 )
 
-// lastAt is the last address at which a region with words may begin.
-const lastAt = 1 << 50
+// LastAt is the last address at which a region with words may begin.
+const LastAt = 1 << 50
 
-// memory finds words by their addresses.
-type memory interface {
-	// from returns the words from the address to the end of its region, none
+// Memory finds words by their addresses.
+type Memory interface {
+	// From returns the words from the address to the end of its region, none
 	// if the address lies in no region.
-	from(address int) []uint64
+	From(address int) []uint64
 }
 
-// whole is a dump whose regions may lie anywhere, and over each other.
-type whole api.Dump
+// Whole is a dump whose regions may lie anywhere, and over each other.
+type Whole api.Dump
 
-func (d whole) from(address int) []uint64 {
+// From returns the words from the address on, of the first region that counts.
+func (d Whole) From(address int) []uint64 {
 	for r := range regions(api.Dump(d)) {
-		if words := behind(r, address); len(words) > 0 {
+		if words := Behind(r, address); len(words) > 0 {
 			return words
 		}
 	}
 	return nil
 }
 
-// apart are regions with words, in ascending order. No address lies in two of
+// Apart are regions with words, in ascending order. No address lies in two of
 // them, so that many of them are searched as fast as few.
-type apart []api.Frag
+type Apart []api.Frag
 
-// separate returns the regions of d, if they have their places and no address
+// Separate returns the regions of d, if they have their places and no address
 // lies in two of them.
-func separate(d api.Dump) (apart, bool) {
-	var made apart
+func Separate(d api.Dump) (Apart, bool) {
+	var made Apart
 	for r := range regions(d) {
 		if len(r.Words) == 0 {
 			continue
 		}
-		if r.At < 0 || r.At > lastAt {
+		if r.At < 0 || r.At > LastAt {
 			return nil, false
 		}
 		made = append(made, r)
@@ -57,12 +60,13 @@ func separate(d api.Dump) (apart, bool) {
 	return made, true
 }
 
-func (m apart) from(address int) []uint64 {
+// From returns the words from the address on, of its region.
+func (m Apart) From(address int) []uint64 {
 	later := sort.Search(len(m), func(i int) bool { return m[i].At > address })
 	if later == 0 {
 		return nil
 	}
-	return behind(m[later-1], address)
+	return Behind(m[later-1], address)
 }
 
 // regions yields the regions of d. Where an address lies in several of them,
@@ -80,9 +84,9 @@ func regions(d api.Dump) iter.Seq[api.Frag] {
 	}
 }
 
-// behind returns the words of r from the address on, if it lies in r. It never
+// Behind returns the words of r from the address on, if it lies in r. It never
 // adds the number of the words to At, for the sum may be beyond all ints.
-func behind(r api.Frag, address int) []uint64 {
+func Behind(r api.Frag, address int) []uint64 {
 	if r.At < 0 || address < r.At || address-r.At >= len(r.Words) {
 		return nil
 	}

@@ -1,4 +1,4 @@
-package look
+package memory
 
 import (
 	"strings"
@@ -10,11 +10,43 @@ import (
 
 // reader reads the terms that words stand for.
 type reader struct {
-	memory memory
+	memory Memory
 	slots  []api.Slot
+	// light says that the bytes of the slots are left out of the weight, and
+	// whether there are such slots.
+	light bool
 	// known holds the weights of objects that have been weighed, by the words
 	// that lead to them. A reader of a single word needs none.
 	known map[uint64]int
+}
+
+// Read returns the term that w stands for, if it stands for a valid one.
+func Read(m Memory, slots []api.Slot, w uint64) (api.Term, bool) {
+	r := reader{memory: m, slots: slots}
+	if r.weight(w, api.MaxWeight) == 0 {
+		return api.Term{}, false
+	}
+	return r.term(w), true
+}
+
+// Readable reports whether each of the roots stands for a valid term.
+func Readable(m Memory, slots []api.Slot, roots []uint64) bool {
+	return reader{memory: m, slots: slots, known: map[uint64]int{}}.readable(roots)
+}
+
+// ReadableLight is Readable where the bytes of the slots are not considered: a
+// HeadRefc, and a part of one, has the weight 1.
+func ReadableLight(m Memory, roots []uint64) bool {
+	return reader{memory: m, light: true, known: map[uint64]int{}}.readable(roots)
+}
+
+func (r reader) readable(roots []uint64) bool {
+	for _, w := range roots {
+		if r.weight(w, api.MaxWeight) == 0 {
+			return false
+		}
+	}
+	return true
 }
 
 // weight returns the weight of the term that w stands for; 0 if w stands for
@@ -24,7 +56,7 @@ func (r reader) weight(w uint64, most int) int {
 	if most < 1 || !word.Plain(w) {
 		return 0
 	}
-	if word.Tag(w) != api.TagBox && word.Tag(w) != api.TagCons {
+	if !Points(w) {
 		return 1
 	}
 	sum, ok := r.known[w]
@@ -42,12 +74,14 @@ func (r reader) weight(w uint64, most int) int {
 
 // weighed is weight, for a word that leads to an object.
 func (r reader) weighed(w uint64, most int) int {
-	o, ok := objectAt(r.memory, w)
+	o, ok := ObjectAt(r.memory, w)
 	switch {
 	case !ok:
 		return 0
-	case o.kind == pair, o.kind == api.HeadTuple:
-		return r.parts(o.words, most)
+	case o.Kind == Pair, o.Kind == api.HeadTuple:
+		return r.parts(o.Words, most)
+	case r.light && ofSlot(r.memory, o):
+		return 1
 	}
 	t, ok := r.leaf(o)
 	if !ok {
@@ -82,12 +116,12 @@ func (r reader) term(w uint64) api.Term {
 	case api.TagNil:
 		return api.Term{Kind: api.Nil}
 	}
-	o, _ := objectAt(r.memory, w)
-	switch o.kind {
-	case pair:
-		return api.Term{Kind: api.Cons, Args: r.terms(o.words)}
+	o, _ := ObjectAt(r.memory, w)
+	switch o.Kind {
+	case Pair:
+		return api.Term{Kind: api.Cons, Args: r.terms(o.Words)}
 	case api.HeadTuple:
-		return api.Term{Kind: api.Tuple, Args: r.terms(o.words)}
+		return api.Term{Kind: api.Tuple, Args: r.terms(o.Words)}
 	}
 	t, _ := r.leaf(o)
 	// The bytes of a slot are the caller's.
@@ -105,27 +139,27 @@ func (r reader) terms(words []uint64) []api.Term {
 
 // leaf returns the term of an object that holds no others, if its bytes are
 // to be had.
-func (r reader) leaf(o object) (api.Term, bool) {
-	switch o.kind {
+func (r reader) leaf(o Object) (api.Term, bool) {
+	switch o.Kind {
 	case api.HeadBig:
-		return big(o.words), true
+		return big(o.Words), true
 	case api.HeadFloat:
-		return api.Term{Kind: api.Float, Bits: o.words[0]}, true
+		return api.Term{Kind: api.Float, Bits: o.Words[0]}, true
 	}
 	text, ok := r.text(o)
 	return api.Term{Kind: api.Binary, Bytes: text}, ok
 }
 
-func (r reader) text(o object) (string, bool) {
-	switch o.kind {
+func (r reader) text(o Object) (string, bool) {
+	switch o.Kind {
 	case api.HeadBytes:
-		return string(bytesIn(o.words)[:o.words[0]]), true
+		return string(bytesIn(o.Words)[:o.Words[0]]), true
 	case api.HeadRefc:
-		s, ok := slotOf(r.slots, o)
+		s, ok := SlotOf(r.slots, o)
 		return s.Bytes, ok
 	case api.HeadSub:
-		from, many := o.words[1], o.words[2]
-		of, _ := outline(r.memory, o.words[0])
+		from, many := o.Words[1], o.Words[2]
+		of, _ := Outline(r.memory, o.Words[0])
 		all, ok := r.text(of)
 		if !ok {
 			return "", false
